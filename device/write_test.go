@@ -195,7 +195,7 @@ func TestWriteDead(t *testing.T) {
 	want.Pages[2] = string(b)
 	check(t, "dead", d, e, want, api.OK)
 	again, e := Write(d, 0, text(8))
-	check(t, "behind it", again, e, want, api.ErrDead)
+	check(t, "behind it", again, e, api.Device{}, api.ErrDead)
 }
 
 // TestWriteLostHarms checks P4.4: a write that is lost lets the harms happen all the same.
@@ -272,15 +272,19 @@ func TestWriteLast(t *testing.T) {
 	want.Pages[1] = string(b)
 	check(t, "the last write", d, e, want, api.OK)
 	d, e = Write(d, 0, text(8))
-	check(t, "one write too many", d, e, want, api.ErrLimit)
+	check(t, "one write too many", d, e, api.Device{}, api.ErrLimit)
 }
 
-// TestWriteErrors checks P4.4: the errors and their order; nothing changes: neither the number of writes, nor pages, nor faults.
+// TestWriteErrors checks P4.4 and R4: the errors, their order, and the zero device; nothing changes in the device that was given.
 func TestWriteErrors(t *testing.T) {
 	refuse := func(name string, d api.Device, page int, s string, want api.Errno) {
 		t.Helper()
+		d, untouched := spare(d)
 		got, e := Write(d, page, s)
-		check(t, name, got, e, d, want)
+		check(t, name, got, e, api.Device{}, want)
+		if !untouched() {
+			t.Errorf("%s: a refused write has changed %s", name, show(d))
+		}
 	}
 	for _, dead := range []bool{false, true} {
 		for _, writes := range []int{5, api.MaxLSN} {
@@ -308,6 +312,23 @@ func TestWriteErrors(t *testing.T) {
 		refuse("not valid", bad, 0, text(9), api.ErrState)
 		bad.Dead = true
 		refuse("not valid, all wrong", bad, math.MaxInt64, "", api.ErrState)
+	}
+}
+
+// TestWriteRefused checks P4.4: a write that is refused does not count, and its faults come with the next one that is done.
+func TestWriteRefused(t *testing.T) {
+	for _, bad := range []struct {
+		page int
+		s    string
+	}{{4, text(9)}, {-1, ""}, {0, ""}, {3, "x"}} {
+		d := sample(goodFaults()...)
+		want, _ := Write(sample(goodFaults()...), 0, text(9))
+		got, e := Write(d, bad.page, bad.s)
+		if e == api.OK || !same(got, api.Device{}) {
+			t.Errorf("page %d, %d bytes: %s, %d", bad.page, len(bad.s), show(got), e)
+		}
+		got, e = Write(d, 0, text(9))
+		check(t, "behind a refused write", got, e, want, api.OK)
 	}
 }
 
@@ -467,7 +488,7 @@ func TestAgainstModel(t *testing.T) {
 	}
 }
 
-// FuzzDevice checks that no function panics, that results are valid, and that an error of Write changes nothing, whatever is given.
+// FuzzDevice checks that no function panics, that results are valid, and zero with an error, whatever is given.
 func FuzzDevice(f *testing.F) {
 	f.Add(3, 5, 1, 1, 6, 0, 0, 0, byte(0), 0, text(9), 3)
 	f.Add(2, 0, -1, 4, 1, 1, 0, 255, byte(7), 1, "x", 257)
@@ -479,10 +500,11 @@ func FuzzDevice(f *testing.F) {
 		d.Writes, d.Unreadable = writes, []int{hidden}
 		d.Faults = []api.Fault{{Kind: kind, At: at, Page: faultPage, Target: target, Byte: index, Mask: mask}}
 		written, e := Write(d, page, s)
-		if e != api.OK && !same(written, d) || e == api.OK && (!Valid(written) || written.Writes != writes+1) {
-			t.Fatalf("Write: %s, %d", show(written), e)
+		if e == api.OK && written.Writes != writes+1 {
+			t.Fatalf("Write: %s", show(written))
 		}
 		for _, x := range []func() (api.Device, api.Errno){
+			func() (api.Device, api.Errno) { return written, e },
 			func() (api.Device, api.Errno) { return Tear(d, page, s, cut) },
 			func() (api.Device, api.Errno) { return Replace(d) },
 			func() (api.Device, api.Errno) { return Inject(d, d.Faults[0]) },
